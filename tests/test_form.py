@@ -1,0 +1,111 @@
+"""The package keeps to its small part of Python, as far as a reading of its files can tell."""
+
+import ast
+import pathlib
+import re
+import unittest
+
+PACKAGE = pathlib.Path(__file__).resolve().parent.parent / "treewells"
+
+BUILT_IN = """len range enumerate zip min max sum abs sorted reversed int str bool list tuple dict set frozenset
+isinstance ord repr any all divmod Exception ValueError TypeError KeyError IndexError LookupError ZeroDivisionError
+ArithmeticError OverflowError RuntimeError NotImplementedError""".split()
+
+METHODS = """append clear copy count endswith extend find get index insert isalnum isalpha isdigit islower isspace
+isupper items join keys ljust lower lstrip partition pop remove replace reverse rfind rjust rpartition rsplit rstrip
+setdefault split splitlines startswith strip update upper values zfill bit_length""".split()
+
+NODES = """Module Expr Constant ImportFrom alias FunctionDef arguments arg ClassDef Assign AugAssign If While For
+Return Break Continue Pass Raise Try ExceptHandler Call Name Load Store Attribute Subscript Slice List Tuple Dict
+Set ListComp comprehension BinOp UnaryOp BoolOp Compare IfExp Lambda keyword JoinedStr FormattedValue Add Sub Mult
+FloorDiv Mod Pow BitAnd BitOr BitXor LShift RShift Invert USub And Or Not Eq NotEq Lt LtE Gt GtE In NotIn Is
+IsNot""".split()
+
+WORDS = re.compile(r"\b(type|typing|typing_extensions|enum|Enum|IntEnum|StrEnum|Flag|IntFlag|Generic|Protocol|ABC|"
+                   r"ABCMeta|namedtuple|NamedTuple|TypedDict|TYPE_CHECKING|abstractmethod)\b"
+                   r"|dataclass|overload|contextmanager")
+
+
+def files():
+    return sorted(PACKAGE.rglob("*.py"))
+
+
+def nodes(path, *sorts):
+    return [node for node in ast.walk(ast.parse(path.read_text())) if isinstance(node, sorts)]
+
+
+def bound_names(path):
+    found = [node.id for node in nodes(path, ast.Name) if isinstance(node.ctx, ast.Store)]
+    found += [node.name for node in nodes(path, ast.FunctionDef, ast.ClassDef)]
+    found += [node.arg for node in nodes(path, ast.arg)]
+    found += [node.name for node in nodes(path, ast.ExceptHandler) if node.name]
+    return found
+
+
+def imported_names(path):
+    return [alias.name for node in nodes(path, ast.ImportFrom) for alias in node.names]
+
+
+class Form(unittest.TestCase):
+    def test_only_plain_files_lie_in_the_package(self):
+        self.assertTrue((PACKAGE / "__init__.py").is_file())
+        for path in PACKAGE.rglob("*"):
+            if "__pycache__" not in path.parts:
+                self.assertRegex(path.name, r"^[a-z0-9_]+\.py$")
+
+    def test_sizes_and_signs(self):
+        for path in files():
+            rows = path.read_text().split("\n")
+            self.assertLessEqual(len(rows), 401, path)
+            for row in rows:
+                self.assertRegex(row, r"^[ -~]{0,120}$", path)
+            for node in nodes(path, ast.FunctionDef):
+                self.assertLessEqual(node.end_lineno - node.lineno + 1, 40, (path, node.name))
+
+    def test_words_that_stand_nowhere(self):
+        for path in files():
+            self.assertIsNone(WORDS.search(path.read_text()), path)
+
+    def test_only_the_listed_statements_and_expressions(self):
+        for path in files():
+            for node in nodes(path, ast.AST):
+                self.assertIn(node.__class__.__name__, NODES, (path, getattr(node, "lineno", None)))
+            for node in nodes(path, ast.Assign):
+                self.assertEqual(len(node.targets), 1, (path, node.lineno))
+            for node in nodes(path, ast.Constant):
+                self.assertIsInstance(node.value, (int, str, None.__class__), (path, node.lineno))
+            for node in nodes(path, ast.ListComp):
+                self.assertTrue(len(node.generators) == 1 and len(node.generators[0].ifs) <= 1, (path, node.lineno))
+
+    def test_names(self):
+        for path in files():
+            bound = bound_names(path)
+            for name in bound:
+                self.assertRegex(name, r"^([A-Za-z][A-Za-z0-9_]*|__init__)$", path)
+                self.assertNotIn(name, dir(__builtins__) if not isinstance(__builtins__, dict) else __builtins__, path)
+                self.assertNotIn(name, imported_names(path), path)
+            known = bound + imported_names(path) + BUILT_IN
+            for node in nodes(path, ast.Name):
+                self.assertIn(node.id, known, (path, node.lineno))
+
+    def test_imports_are_of_the_packages_own_names_from_where_they_are_defined(self):
+        for path in files():
+            for node in nodes(path, ast.ImportFrom):
+                self.assertEqual(node.level, 0)
+                head, tail = node.module.split(".")
+                self.assertEqual(head, "treewells")
+                defined = bound_names(PACKAGE / f"{tail}.py")
+                for alias in node.names:
+                    self.assertIn(alias.name, defined, (path, node.lineno))
+                    self.assertIsNone(alias.asname)
+
+    def test_methods_are_listed_ones_or_own(self):
+        own = [name for path in files() for name in bound_names(path)]
+        for path in files():
+            for node in nodes(path, ast.Call):
+                if isinstance(node.func, ast.Attribute):
+                    self.assertIn(node.func.attr, METHODS + own, (path, node.lineno))
+
+
+if __name__ == "__main__":
+    unittest.main()
