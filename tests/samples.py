@@ -76,6 +76,52 @@ def has_road(roads, a, b):
     return any([a, b] in (road[:2], road[1::-1]) for road in roads)
 
 
+def subsets(things):
+    """All lists of some of the things, shorter ones first."""
+    return [list(some) for size in range(len(things) + 1) for some in itertools.combinations(things, size)]
+
+
+def lumps(many, roads):
+    """All lumps, by definition."""
+    table = fars(many, roads)
+    return [some for some in subsets(range(many))[1:]
+            if all(set(between(table, a, b)) <= set(some) for a in some for b in some)]
+
+
+def chance_lump(chance, many, roads):
+    """A lump that grew from one place along roads, its places in any order."""
+    some = [chance.randrange(many)]
+    for _ in range(chance.randrange(many)):
+        rim = [b for road in roads for a, b in (road[:2], road[1::-1]) if a in some and b not in some]
+        some += rim and [chance.choice(rim)]
+    chance.shuffle(some)
+    return some
+
+
+def chance_sites(chance, many, least=0):
+    return chance.sample(range(many), chance.randint(least, many))
+
+
+def chance_houses(chance, table, most):
+    """Houses whose reach is none, just enough for some place, or one more or less than that."""
+    found = []
+    for _ in range(chance.randint(0, most)):
+        place = chance.randrange(len(table))
+        reach = chance.choice(table[place]) + chance.choice((-1, 0, 0, 1))
+        found.append([place, max(0, reach)])
+    return found
+
+
+def lie_apart(yards, numbers):
+    """Whether no place is in two of the yards of these numbers."""
+    held = [place for number in numbers for place in yards[number]]
+    return len(held) == len(set(held))
+
+
+def is_rising(some):
+    return all(a < b for a, b in zip(some, some[1:]))
+
+
 # Three roads that meet at 1: five long to 0, two long to 2 and seven long to 3.
 FORK = (4, [[0, 1, 5], [2, 1, 2], [1, 3, 7]])
 

@@ -21,6 +21,11 @@ Set ListComp comprehension BinOp UnaryOp BoolOp Compare IfExp Lambda keyword Joi
 FloorDiv Mod Pow BitAnd BitOr BitXor LShift RShift Invert USub And Or Not Eq NotEq Lt LtE Gt GtE In NotIn Is
 IsNot""".split()
 
+KEYWORDS = {"sorted": ("key", "reverse"), "min": ("key", "default"), "max": ("key", "default"), "sum": ("start",),
+            "enumerate": ("start",), "zip": ("strict",)}
+WALKED = ("zip", "enumerate", "reversed", "range", "items", "keys", "values")
+WALKERS = ("list", "tuple", "dict", "sorted", "sum", "any", "all", "enumerate", "zip", "min", "max", "join")
+
 WORDS = re.compile(r"\b(type|typing|typing_extensions|enum|Enum|IntEnum|StrEnum|Flag|IntFlag|Generic|Protocol|ABC|"
                    r"ABCMeta|namedtuple|NamedTuple|TypedDict|TYPE_CHECKING|abstractmethod)\b"
                    r"|dataclass|overload|contextmanager")
@@ -39,6 +44,26 @@ def bound_names(path):
     found += [node.name for node in nodes(path, ast.FunctionDef, ast.ClassDef)]
     found += [node.arg for node in nodes(path, ast.arg)]
     found += [node.name for node in nodes(path, ast.ExceptHandler) if node.name]
+    return found
+
+
+def called_name(node):
+    """The name by which a function or method is called, of anything else None."""
+    if not isinstance(node, ast.Call):
+        return None
+    return node.func.attr if isinstance(node.func, ast.Attribute) else node.func.id
+
+
+def drawn_from(path):
+    """The files from which this one imports, in whatever many steps."""
+    found = []
+    todo = [path]
+    while todo:
+        for node in nodes(todo.pop(), ast.ImportFrom):
+            other = PACKAGE / f"{node.module.split('.')[1]}.py"
+            if other not in found:
+                found.append(other)
+                todo.append(other)
     return found
 
 
@@ -98,6 +123,37 @@ class Form(unittest.TestCase):
                 for alias in node.names:
                     self.assertIn(alias.name, defined, (path, node.lineno))
                     self.assertIsNone(alias.asname)
+
+    def test_no_two_files_draw_from_one_another(self):
+        for path in files():
+            self.assertNotIn(path, drawn_from(path))
+
+    def test_is_stands_beside_none_and_truths_alone(self):
+        for path in files():
+            for node in nodes(path, ast.Compare):
+                if any(isinstance(sign, (ast.Is, ast.IsNot)) for sign in node.ops):
+                    self.assertIsInstance(node.comparators[0], ast.Constant, (path, node.lineno))
+                    self.assertIn(node.comparators[0].value, (None, True, False), (path, node.lineno))
+
+    def test_keywords_are_listed_ones(self):
+        for path in files():
+            for node in nodes(path, ast.Call):
+                for keyword in node.keywords:
+                    self.assertIn(keyword.arg, KEYWORDS.get(called_name(node), ()), (path, node.lineno))
+
+    def test_what_is_walked_is_walked_at_once_and_sets_are_not_kept(self):
+        for path in files():
+            walked = [node.iter for node in nodes(path, ast.For, ast.comprehension)]
+            handed = [node for node in nodes(path, ast.Call) if node.args]
+            walked += [node.args[0] for node in handed if called_name(node) in WALKERS]
+            weighed = [node.args[0] for node in handed if called_name(node) in ("sorted", "len")]
+            for node in nodes(path, ast.Call):
+                if called_name(node) in WALKED:
+                    self.assertIn(ast.dump(node, include_attributes=True),
+                                  [ast.dump(other, include_attributes=True) for other in walked], (path, node.lineno))
+                if called_name(node) == "set":
+                    self.assertIn(ast.dump(node, include_attributes=True),
+                                  [ast.dump(other, include_attributes=True) for other in weighed], (path, node.lineno))
 
     def test_methods_are_listed_ones_or_own(self):
         own = [name for path in files() for name in bound_names(path)]

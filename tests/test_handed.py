@@ -4,9 +4,13 @@ import copy
 import unittest
 
 from samples import FORK, NO_TREES, all_trees
-from treewells.errors import NoPlace, NoRoad, NoSpot, NoTree, NoWorth, TreeError
+from treewells.errors import NoPlace, NoRoad, NoSite, NoSpot, NoTree, NoWorth, NoYard, TreeError
 from treewells.middles import balance, branches, ends, middle, spot_far, sum_from
+from treewells.reaches import best_wells, least_reach, why_reach
 from treewells.trees import beyond, far, hull, is_lump, is_tree, leaves, odd_places, way
+from treewells.wells import serves, shy, wells
+from treewells.worths import best_yards, prices
+from treewells.yards import apart, colours, crowd, spots
 
 
 def askings(many, roads):
@@ -21,6 +25,31 @@ def askings(many, roads):
     ]
     for a, b, length in roads:
         found += [(beyond, (a, b)), (spot_far, ([b, a, length], 0))]
+    return found + diggings(many, roads) + gatherings(many, roads)
+
+
+def diggings(many, roads):
+    """Questions of wells and reaches: houses that all are served, that none are, and no houses."""
+    places = list(range(many))
+    houses = [[place, (7 * place) % 5] for place in reversed(places)] * 2
+    found = [(serves, (0, [many - 1, 1]))]
+    for ask in (wells, shy):
+        found += [(ask, (houses, places[::-1])), (ask, (houses, [])), (ask, ([], places)), (ask, (houses, [0]))]
+    for ask in (least_reach, best_wells, why_reach):
+        for homes in (places[::-1] * 2, [many - 1], []):
+            found += [(ask, (homes, places[::-1], 1)), (ask, (homes, places[::-1], 3)), (ask, (homes, [0], 2))]
+    return found
+
+
+def gatherings(many, roads):
+    """Questions of yards and worths: the places, the roads' two places, the whole tree, and no yards."""
+    yards = [road[1::-1] for road in roads] + [[place] for place in range(many)] + [list(range(many))[::-1]]
+    worths = [(5 * number) % 7 for number in range(len(yards))]
+    found = []
+    for some in (yards, yards * 2, [list(range(many))], []):
+        found += [(ask, (some,)) for ask in (spots, apart, colours, crowd)]
+    for ask in (best_yards, prices):
+        found += [(ask, (yards, worths)), (ask, (yards, [0] * len(yards))), (ask, ([], []))]
     return found
 
 
@@ -37,6 +66,15 @@ REFUSED = [
     (NoTree, way, (*NO_TREES[-2], 0, 0)), (NoTree, hull, (*NO_TREES[-2], [0])), (NoPlace, way, (*FORK, 0, 4)),
     (NoPlace, hull, (*FORK, [3, 0, 9])), (NoRoad, beyond, (*FORK, 0, 3)), (NoSpot, spot_far, (*FORK, [3, 0, 1], 0)),
     (NoWorth, balance, (*FORK, [3, 2, 1])), (NoWorth, branches, (*FORK, [3, 2, 1, -1], 0)),
+    (NoTree, wells, (*NO_TREES[-2], [[0, 1]], [0])), (NoTree, prices, (*NO_TREES[-2], [[0]], [1])),
+    (NoPlace, serves, (*FORK, 0, [4, 1])), (NoPlace, wells, (*FORK, [[3, 1], [4, 1]], [2, 1])),
+    (NoSite, wells, (*FORK, [[3, 1], [0, 1]], [2, 1, 2])), (NoSite, shy, (*FORK, [[3, 1]], [2, 1, 2])),
+    (NoPlace, least_reach, (*FORK, [3, 9], [2, 1], 1)), (NoSite, least_reach, (*FORK, [3, 0], [2, 1], 0)),
+    (NoSite, best_wells, (*FORK, [3, 0], [], 1)), (NoSite, why_reach, (*FORK, [3, 0], [2, 2], 1)),
+    (NoYard, spots, (*FORK, [[3, 1], [3, 0]])), (NoYard, apart, (*FORK, [[3, 1], []])),
+    (NoYard, colours, (*FORK, [[3, 1], [1, 1]])), (NoYard, crowd, (*FORK, [[3, 1], [4]])),
+    (NoYard, best_yards, (*FORK, [[3, 1], [3, 0]], [2, -1])), (NoWorth, best_yards, (*FORK, [[3, 1], [1, 0]], [2, -1])),
+    (NoWorth, prices, (*FORK, [[3, 1], [1, 0]], [2])),
 ]
 
 
@@ -76,17 +114,20 @@ class Handed(unittest.TestCase):
 
     def test_what_was_told_stays_when_the_handed_lists_change(self):
         roads, some, wants = copy.deepcopy(FORK[1]), [0, 1, 2, 3], [1, 2, 3, 4]
-        told = [hull(4, roads, some), branches(4, roads, wants, 1), middle(4, roads), beyond(4, roads, 0, 1)]
+        houses, yards, worths = [[3, 0], [0, 0], [1, 0], [2, 0]], [[0], [1], [2], [3]], [4, 3, 2, 1]
+        told = [hull(4, roads, some), branches(4, roads, wants, 1), middle(4, roads), beyond(4, roads, 0, 1),
+                wells(4, roads, houses, some), shy(4, roads, houses, some), best_wells(4, roads, some, some, 4),
+                why_reach(4, roads, some, some, 1), spots(4, roads, yards), apart(4, roads, yards),
+                colours(4, roads, yards), best_yards(4, roads, yards, worths), prices(4, roads, yards, worths)]
         kept = copy.deepcopy(told)
-        spoil(roads)
-        spoil(some)
-        spoil(wants)
+        for handed in (roads, some, wants, houses, yards, worths):
+            spoil(handed)
         self.assertEqual(told, kept)
 
 
 class Refusals(unittest.TestCase):
     def test_each_is_caught_by_three_names_and_no_other(self):
-        names = (NoTree, NoPlace, NoRoad, NoSpot, NoWorth)
+        names = (NoTree, NoPlace, NoRoad, NoSpot, NoSite, NoYard, NoWorth)
         for error, ask, handed in REFUSED:
             for name in (error, TreeError, ValueError):
                 self.assertRaises(name, ask, *handed)
