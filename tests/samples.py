@@ -112,6 +112,18 @@ def chance_houses(chance, table, most):
     return found
 
 
+def chance_gives(chance, many, most):
+    """Gives that come to 0 together, each of them at most so great."""
+    found = [0] * many
+    for _ in range(many):
+        a, b = chance.randrange(many), chance.randrange(many)
+        room = min(most - found[a], most + found[b])
+        amount = chance.choice((room, chance.randint(0, room)))
+        found[a] += amount
+        found[b] -= amount
+    return found
+
+
 def lie_apart(yards, numbers):
     """Whether no place is in two of the yards of these numbers."""
     held = [place for number in numbers for place in yards[number]]

@@ -71,6 +71,10 @@ def imported_names(path):
     return [alias.name for node in nodes(path, ast.ImportFrom) for alias in node.names]
 
 
+def method_names(node):
+    return [part.name for part in node.body if isinstance(part, ast.FunctionDef)]
+
+
 class Form(unittest.TestCase):
     def test_only_plain_files_lie_in_the_package(self):
         self.assertTrue((PACKAGE / "__init__.py").is_file())
@@ -154,6 +158,48 @@ class Form(unittest.TestCase):
                 if called_name(node) == "set":
                     self.assertIn(ast.dump(node, include_attributes=True),
                                   [ast.dump(other, include_attributes=True) for other in weighed], (path, node.lineno))
+
+    def test_classes_hold_methods_alone_under_one_base(self):
+        for path in files():
+            for node in nodes(path, ast.ClassDef):
+                self.assertLessEqual(len(node.bases), 1, (path, node.lineno))
+                self.assertEqual((node.keywords, node.decorator_list), ([], []), (path, node.lineno))
+                for part in node.body:
+                    self.assertIsInstance(part, (ast.FunctionDef, ast.Pass), (path, part.lineno))
+                names = method_names(node)
+                self.assertEqual(len(names), len(set(names)), (path, node.lineno))
+
+    def test_classes_are_called_raised_or_bases_alone(self):
+        classes = [node.name for path in files() for node in nodes(path, ast.ClassDef)]
+        for path in files():
+            fit = [node.func for node in nodes(path, ast.Call)]
+            fit += [base for node in nodes(path, ast.ClassDef) for base in node.bases]
+            fit += [node.type for node in nodes(path, ast.ExceptHandler)]
+            fit += [node.args[1] for node in nodes(path, ast.Call) if called_name(node) == "isinstance"]
+            places = [(node.lineno, node.col_offset) for node in fit]
+            for node in nodes(path, ast.Name):
+                if node.id in classes:
+                    self.assertIn((node.lineno, node.col_offset), places, path)
+
+    def test_no_name_is_a_method_and_a_value(self):
+        methods = [name for path in files() for node in nodes(path, ast.ClassDef) for name in method_names(node)]
+        for path in files():
+            for node in nodes(path, ast.Attribute):
+                if isinstance(node.ctx, ast.Store):
+                    self.assertNotIn(node.attr, methods, (path, node.lineno))
+
+    def test_own_methods_have_names_of_their_own(self):
+        taken = [name for sort in (str, int, list, dict, set, bytes) for name in dir(sort)]
+        for path in files():
+            for node in nodes(path, ast.ClassDef):
+                for name in method_names(node):
+                    self.assertIn(name, [name] if name not in taken else METHODS + ["__init__", "add", "discard"])
+
+    def test_what_is_imported_is_used(self):
+        for path in files():
+            used = [node.id for node in nodes(path, ast.Name)]
+            for name in imported_names(path):
+                self.assertIn(name, used, path)
 
     def test_methods_are_listed_ones_or_own(self):
         own = [name for path in files() for name in bound_names(path)]

@@ -4,13 +4,19 @@ import copy
 import unittest
 
 from samples import FORK, NO_TREES, all_trees
-from treewells.errors import NoPlace, NoRoad, NoSite, NoSpot, NoTree, NoWorth, NoYard, TreeError
+from treewells.errors import NoGift, NoPlace, NoRoad, NoSite, NoSpot, NoTree, NoWorth, NoYard, TreeError
+from treewells.goods import are_levels, are_sendings, cost_of, least_cost, levels, loads, pay, sendings
 from treewells.middles import balance, branches, ends, middle, spot_far, sum_from
+from treewells.questions import Balance, Goods, Middle, Reach, Wells
 from treewells.reaches import best_wells, least_reach, why_reach
+from treewells.rounds import length_of, line_by, needed, round_by, sweeps, walks
 from treewells.trees import beyond, far, hull, is_lump, is_tree, leaves, odd_places, way
 from treewells.wells import serves, shy, wells
 from treewells.worths import best_yards, prices
 from treewells.yards import apart, colours, crowd, spots
+
+
+TREES = all_trees()[:41] + all_trees()[41::2]
 
 
 def askings(many, roads):
@@ -25,7 +31,7 @@ def askings(many, roads):
     ]
     for a, b, length in roads:
         found += [(beyond, (a, b)), (spot_far, ([b, a, length], 0))]
-    return found + diggings(many, roads) + gatherings(many, roads)
+    return found + diggings(many, roads) + gatherings(many, roads) + goings(many, roads) + questions(many, roads)
 
 
 def diggings(many, roads):
@@ -53,6 +59,35 @@ def gatherings(many, roads):
     return found
 
 
+def goings(many, roads):
+    """Questions of goods, walks and rounds: goods to and from the ends, none at all, and some places and none."""
+    places = list(range(many))
+    gives = [1 - many] + [1] * (many - 1)
+    found = [(walks, ()), (sweeps, ()), (cost_of, ([[a, b, 3] for a, b, _ in roads],)), (cost_of, ([],))]
+    found += [(length_of, ([road[0], road[1], road[0]],)) for road in roads] + [(length_of, ([],))]
+    for some in (gives, [0] * many):
+        found += [(ask, (some,)) for ask in (sendings, loads, least_cost, levels, are_levels)]
+        found += [(are_sendings, (some, rows)) for rows in ([], [[a, b, 1] for a, b, _ in roads], [[0]])]
+    for some in (places, [many - 1, 0, 0], [0], []):
+        found += [(round_by, (some,)), (needed, (some,)), (line_by, (many - 1, some))]
+    return found
+
+
+def questions(many, roads):
+    """All that kinds are asked, with their own answers and papers and with rows that are none."""
+    places = list(range(many))
+    found = []
+    for kind, asked in ((Middle(), []), (Balance(), [places]), (Wells(), [places[::-1], [0, 1], [many - 1, 2], [0, 1]]),
+                        (Wells(), [[], [0, 0], [0, 1]]), (Reach(), [[1], places[::-1], places * 2]),
+                        (Reach(), [[1], [many - 1], [0]]), (Goods(), [[1 - many] + [1] * (many - 1)])):
+        found += [(ask, (asked,)) for ask in (kind.fits, kind.answer, kind.paper, kind.worth)]
+        rows, paper = kind.answer(many, roads, asked), kind.paper(many, roads, asked)
+        for worth in (kind.worth(many, roads, asked), 0, None):
+            found += [(kind.takes, (asked, some, worth)) for some in (rows or [], [places[::-1]], [])]
+            found += [(kind.shows, (asked, some, worth)) for some in (paper, [places[::-1]], [])]
+    return found
+
+
 def spoil(told):
     """Changes every list of what was told, as deep as it goes."""
     if isinstance(told, list):
@@ -74,13 +109,18 @@ REFUSED = [
     (NoYard, spots, (*FORK, [[3, 1], [3, 0]])), (NoYard, apart, (*FORK, [[3, 1], []])),
     (NoYard, colours, (*FORK, [[3, 1], [1, 1]])), (NoYard, crowd, (*FORK, [[3, 1], [4]])),
     (NoYard, best_yards, (*FORK, [[3, 1], [3, 0]], [2, -1])), (NoWorth, best_yards, (*FORK, [[3, 1], [1, 0]], [2, -1])),
-    (NoWorth, prices, (*FORK, [[3, 1], [1, 0]], [2])),
+    (NoWorth, prices, (*FORK, [[3, 1], [1, 0]], [2])), (NoTree, loads, (*NO_TREES[-2], [1])),
+    (NoGift, sendings, (*FORK, [3, -2, -1])), (NoGift, levels, (*FORK, [3, -2, -1, 1])),
+    (NoGift, are_sendings, (*FORK, [3, -2, -1, 1], [[3, 0, 1]])), (NoPlace, cost_of, (*FORK, [[3, 0, 1], [4, 0, 1]])),
+    (NoGift, pay, ([3, -2], [1, 2])), (NoTree, round_by, (*NO_TREES[-2], [5])), (NoPlace, round_by, (*FORK, [3, 0, 9])),
+    (NoPlace, needed, (*FORK, [3, 0, 9])), (NoPlace, line_by, (*FORK, 9, [3, 0])),
+    (NoPlace, length_of, (*FORK, [3, 9])),
 ]
 
 
 class Handed(unittest.TestCase):
     def test_nothing_handed_in_is_changed(self):
-        for many, roads in all_trees():
+        for many, roads in TREES:
             before = copy.deepcopy(roads)
             for ask, rest in askings(many, roads):
                 rest_before = copy.deepcopy(rest)
@@ -93,8 +133,13 @@ class Handed(unittest.TestCase):
             self.assertRaises(error, ask, *handed)
             self.assertEqual(handed, before)
 
+    def test_pay_changes_nothing(self):
+        gives, some = [3, -1, -2], [5, 0, -7]
+        self.assertEqual(pay(gives, some), -29)
+        self.assertEqual((gives, some), ([3, -1, -2], [5, 0, -7]))
+
     def test_what_is_told_is_the_askers_own(self):
-        for many, roads in all_trees():
+        for many, roads in TREES:
             before = copy.deepcopy(roads)
             for ask, rest in askings(many, roads):
                 rest_before = copy.deepcopy(rest)
@@ -105,7 +150,7 @@ class Handed(unittest.TestCase):
                 self.assertEqual(ask(many, roads, *rest), kept, ask)
 
     def test_what_was_told_stays_when_more_is_asked(self):
-        for many, roads in all_trees():
+        for many, roads in TREES:
             told = [ask(many, roads, *rest) for ask, rest in askings(many, roads)]
             kept = copy.deepcopy(told)
             for ask, rest in askings(many, roads):
@@ -115,19 +160,24 @@ class Handed(unittest.TestCase):
     def test_what_was_told_stays_when_the_handed_lists_change(self):
         roads, some, wants = copy.deepcopy(FORK[1]), [0, 1, 2, 3], [1, 2, 3, 4]
         houses, yards, worths = [[3, 0], [0, 0], [1, 0], [2, 0]], [[0], [1], [2], [3]], [4, 3, 2, 1]
+        gives = [3, -1, -1, -1]
         told = [hull(4, roads, some), branches(4, roads, wants, 1), middle(4, roads), beyond(4, roads, 0, 1),
                 wells(4, roads, houses, some), shy(4, roads, houses, some), best_wells(4, roads, some, some, 4),
                 why_reach(4, roads, some, some, 1), spots(4, roads, yards), apart(4, roads, yards),
-                colours(4, roads, yards), best_yards(4, roads, yards, worths), prices(4, roads, yards, worths)]
+                colours(4, roads, yards), best_yards(4, roads, yards, worths), prices(4, roads, yards, worths),
+                sendings(4, roads, gives), levels(4, roads, gives), round_by(4, roads, some), needed(4, roads, some),
+                line_by(4, roads, 0, some), walks(4, roads), sweeps(4, roads), Goods().answer(4, roads, [gives]),
+                Balance().paper(4, roads, [wants]), Wells().answer(4, roads, [some] + houses),
+                Reach().paper(4, roads, [[1], some, some])]
         kept = copy.deepcopy(told)
-        for handed in (roads, some, wants, houses, yards, worths):
+        for handed in (roads, some, wants, houses, yards, worths, gives):
             spoil(handed)
         self.assertEqual(told, kept)
 
 
 class Refusals(unittest.TestCase):
     def test_each_is_caught_by_three_names_and_no_other(self):
-        names = (NoTree, NoPlace, NoRoad, NoSpot, NoSite, NoYard, NoWorth)
+        names = (NoTree, NoPlace, NoRoad, NoSpot, NoSite, NoYard, NoWorth, NoGift)
         for error, ask, handed in REFUSED:
             for name in (error, TreeError, ValueError):
                 self.assertRaises(name, ask, *handed)

@@ -60,8 +60,12 @@ def middle(many, roads):
     return [places[0], places[0], 0]
 
 
+def are_wants(many, wants):
+    return len(wants) == many and all([is_whole(want) and want >= 0 for want in wants])
+
+
 def check_wants(many, wants):
-    if len(wants) != many or not all([is_whole(want) and want >= 0 for want in wants]):
+    if not are_wants(many, wants):
         raise NoWorth("wants are a number from 0 on for each place")
 
 

@@ -14,6 +14,14 @@ def is_place(many, value):
     return is_whole(value) and 0 <= value < many
 
 
+def are_places(many, some):
+    return all([is_place(many, value) for value in some])
+
+
+def are_unlike(some):
+    return len(set(some)) == len(some)
+
+
 def is_road(many, row):
     if len(row) != 3 or not is_whole(row[2]):
         return False
@@ -37,7 +45,7 @@ def check_tree(many, roads):
 
 def check_places(many, some):
     # The words leave the number out: it may be too great for Python to write.
-    if not all([is_place(many, value) for value in some]):
+    if not are_places(many, some):
         raise NoPlace("this is no place of the tree")
 
 
@@ -113,9 +121,7 @@ def beyond(many, roads, a, b):
 
 def is_lump(many, roads, some):
     check_tree(many, roads)
-    if len(some) == 0 or not all([is_place(many, value) for value in some]):
-        return False
-    if len(set(some)) != len(some):
+    if len(some) == 0 or not are_places(many, some) or not are_unlike(some):
         return False
     inner = [row for row in roads if row[0] in some and row[1] in some]
     # As there is no ring, the places hang together just where so many roads lie among them.

@@ -1,13 +1,13 @@
 """Wells: as few sites as can be that serve all houses, and as many houses that share no site."""
 
 from treewells.errors import NoSite
-from treewells.trees import check_places, check_tree, fars_from, neighbours
+from treewells.trees import are_unlike, check_places, check_tree, fars_from, neighbours
 
 
 def check_sites(many, homes, sites):
     check_places(many, homes)
     check_places(many, sites)
-    if len(set(sites)) != len(sites):
+    if not are_unlike(sites):
         raise NoSite("a site is told twice")
 
 
@@ -17,20 +17,16 @@ def serves(many, roads, site, house):
     return fars_from(neighbours(many, roads), house[0])[site] <= house[1]
 
 
-# For each house the sites that serve it, those nearer to place 0 first.
-def sites_serving(near, depths, houses, sites):
-    ranked = sorted(sites, key=lambda site: depths[site])
-    serving = []
-    for house in houses:
-        fars = fars_from(near, house[0])
-        serving.append([site for site in ranked if fars[site] <= house[1]])
-    return serving
+def sites_serving(near, house, sites):
+    fars = fars_from(near, house[0])
+    return [site for site in sites if fars[site] <= house[1]]
 
 
 # The wells (or None) and the shy houses: each well is dug for just one of these, so they are as many.
 def dig(near, houses, sites):
     depths = fars_from(near, 0)
-    serving = sites_serving(near, depths, houses, sites)
+    upper_first = sorted(sites, key=lambda site: depths[site])
+    serving = [sites_serving(near, house, upper_first) for house in houses]
     missed = [number for number in range(len(houses)) if len(serving[number]) == 0]
     if len(missed) > 0:
         return (None, missed[:1])
