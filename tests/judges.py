@@ -4,7 +4,9 @@ For each kind's word there is a judge of answers and one of papers, which get th
 roads, the rows that ask, the rows to look at and a whole number as worth.
 """
 
-from samples import has_road, is_rising
+import itertools
+
+from samples import has_road, is_rising, lie_apart
 
 
 def is_row(rows, size):
@@ -134,10 +136,121 @@ def shows_goods(table, roads, asked, rows, worth):
     return sum(-gift * level for gift, level in zip(asked[0], rows[0])) >= worth
 
 
+def takes_spots(table, roads, asked, rows, worth):
+    if len(rows) != 1 or not is_rising(rows[0]) or not are_among(rows[0], range(len(table))):
+        return False
+    return all(set(yard) & set(rows[0]) for yard in asked) and len(rows[0]) <= worth
+
+
+def are_apart(yards, rows):
+    if len(rows) != 1 or not is_rising(rows[0]) or not are_among(rows[0], range(len(yards))):
+        return False
+    return lie_apart(yards, rows[0])
+
+
+def shows_spots(table, roads, asked, rows, worth):
+    return are_apart(asked, rows) and len(rows[0]) >= worth
+
+
+def takes_colours(table, roads, asked, rows, worth):
+    if not is_row(rows, len(asked)) or any(number < 0 for number in rows[0]):
+        return False
+    for a, b in itertools.combinations(range(len(asked)), 2):
+        if set(asked[a]) & set(asked[b]) and rows[0][a] == rows[0][b]:
+            return False
+    return all(number < worth for number in rows[0]) and worth >= 0
+
+
+def shows_colours(table, roads, asked, rows, worth):
+    if not is_row(rows, 1) or rows[0][0] not in range(len(table)):
+        return False
+    return sum(rows[0][0] in yard for yard in asked) >= worth
+
+
+def takes_worths(table, roads, asked, rows, worth):
+    return are_apart(asked[1:], rows) and sum(asked[0][number] for number in rows[0]) >= worth
+
+
+def shows_worths(table, roads, asked, rows, worth):
+    if not is_row(rows, len(table)) or any(price < 0 for price in rows[0]):
+        return False
+    for number, yard in enumerate(asked[1:]):
+        if sum(price for place, price in enumerate(rows[0]) if place in yard) < asked[0][number]:
+            return False
+    return sum(rows[0]) <= worth
+
+
+def steps_of(places):
+    """The roads that a list of places goes along, each with its lesser place first."""
+    return [tuple(sorted(pair)) for pair in zip(places, places[1:])]
+
+
+def pairs_of(roads):
+    return sorted(tuple(sorted(road[:2])) for road in roads)
+
+
+def all_steps(roads, rows):
+    """The roads that walks go along, in order, or None where one of the rows is no walk."""
+    found = []
+    for row in rows:
+        if len(row) < 2 or len(set(row)) < len(row) or not are_among(steps_of(row), pairs_of(roads)):
+            return None
+        found += steps_of(row)
+    return sorted(found)
+
+
+def takes_walks(table, roads, asked, rows, worth):
+    return all_steps(roads, rows) == pairs_of(roads) and len(rows) <= worth
+
+
+def takes_sweeps(table, roads, asked, rows, worth):
+    steps = all_steps(roads, rows)
+    return steps is not None and sorted(set(steps)) == pairs_of(roads) and len(rows) <= worth
+
+
+def degree(roads, place):
+    return sum(place in road[:2] for road in roads)
+
+
+def shows_walks(table, roads, asked, rows, worth):
+    if len(rows) != 1 or not is_rising(rows[0]) or not are_among(rows[0], range(len(table))):
+        return False
+    return all(degree(roads, place) % 2 == 1 for place in rows[0]) and len(rows[0]) >= 2 * worth - 1
+
+
+def shows_sweeps(table, roads, asked, rows, worth):
+    if len(rows) != 1 or not is_rising(rows[0]) or not are_among(rows[0], range(len(table))):
+        return False
+    return all(degree(roads, place) == 1 for place in rows[0]) and len(rows[0]) >= 2 * worth - 1
+
+
+def takes_round(table, roads, asked, rows, worth):
+    if len(rows) != 1 or not are_among(rows[0], range(len(table))) or not are_among(asked[0], rows[0]):
+        return False
+    if rows[0] == []:
+        return worth >= 0
+    if rows[0][0] != rows[0][-1] or not are_among(steps_of(rows[0]), pairs_of(roads)):
+        return False
+    return sum(table[a][b] for a, b in steps_of(rows[0])) <= worth
+
+
+def shows_round(table, roads, asked, rows, worth):
+    told = []
+    for row in rows:
+        if len(row) != 2 or tuple(sorted(row)) not in pairs_of(roads) or tuple(sorted(row)) in told:
+            return False
+        if len({table[row[0]][place] < table[row[1]][place] for place in asked[0]}) != 2:
+            return False
+        told.append(tuple(sorted(row)))
+    return 2 * sum(table[a][b] for a, b in told) >= worth
+
+
 TAKES = {"middle": takes_middle, "balance": takes_balance, "wells": takes_wells, "reach": takes_reach,
-         "goods": takes_goods}
+         "spots": takes_spots, "colours": takes_colours, "worths": takes_worths, "goods": takes_goods,
+         "walks": takes_walks, "sweeps": takes_sweeps, "round": takes_round}
 SHOWS = {"middle": shows_middle, "balance": shows_balance, "wells": shows_wells, "reach": shows_reach,
-         "goods": shows_goods}
+         "spots": shows_spots, "colours": shows_colours, "worths": shows_worths, "goods": shows_goods,
+         "walks": shows_walks, "sweeps": shows_sweeps, "round": shows_round}
 
 
 def takes(word, table, roads, asked, rows, worth):

@@ -26,6 +26,8 @@ KEYWORDS = {"sorted": ("key", "reverse"), "min": ("key", "default"), "max": ("ke
 WALKED = ("zip", "enumerate", "reversed", "range", "items", "keys", "values")
 WALKERS = ("list", "tuple", "dict", "sorted", "sum", "any", "all", "enumerate", "zip", "min", "max", "join")
 
+CHANGING = ("append", "clear", "extend", "insert", "pop", "remove", "reverse", "setdefault", "update")
+
 WORDS = re.compile(r"\b(type|typing|typing_extensions|enum|Enum|IntEnum|StrEnum|Flag|IntFlag|Generic|Protocol|ABC|"
                    r"ABCMeta|namedtuple|NamedTuple|TypedDict|TYPE_CHECKING|abstractmethod)\b"
                    r"|dataclass|overload|contextmanager")
@@ -194,6 +196,35 @@ class Form(unittest.TestCase):
             for node in nodes(path, ast.ClassDef):
                 for name in method_names(node):
                     self.assertIn(name, [name] if name not in taken else METHODS + ["__init__", "add", "discard"])
+
+    def test_the_top_of_a_file_holds_plain_values_that_are_only_read(self):
+        for path in files():
+            named = []
+            for node in ast.parse(path.read_text()).body:
+                self.assertIsInstance(node, (ast.Expr, ast.ImportFrom, ast.FunctionDef, ast.ClassDef, ast.Assign), path)
+                if isinstance(node, ast.Assign):
+                    named.append(node.targets[0].id)
+                    inner = [part for part in ast.walk(node.value) if isinstance(part, (ast.List, ast.Dict))]
+                    self.assertTrue(inner in ([], [node.value]), (path, node.lineno))
+            self.assertEqual(len(named), len(set(named)), path)
+            stored = [node.value for node in nodes(path, ast.Subscript) if isinstance(node.ctx, ast.Store)]
+            stored += [node.func.value for node in nodes(path, ast.Call) if isinstance(node.func, ast.Attribute)
+                       and node.func.attr in CHANGING]
+            for node in stored:
+                self.assertFalse(isinstance(node, ast.Name) and node.id in named, (path, node.lineno))
+
+    def test_texts_hold_no_percent_sign(self):
+        for path in files():
+            for node in nodes(path, ast.Constant):
+                self.assertNotIn("%", str(node.value), (path, node.lineno))
+
+    def test_values_of_objects_have_names_of_their_own(self):
+        taken = [name for sort in (str, int, list, dict, set, bytes) for name in dir(sort)]
+        for path in files():
+            for node in nodes(path, ast.Attribute):
+                if isinstance(node.ctx, ast.Store):
+                    self.assertNotIn(node.attr, taken, (path, node.lineno))
+                    self.assertEqual(node.value.id, "self", (path, node.lineno))
 
     def test_what_is_imported_is_used(self):
         for path in files():

@@ -4,12 +4,17 @@ import copy
 import unittest
 
 from samples import FORK, NO_TREES, all_trees
-from treewells.errors import NoGift, NoPlace, NoRoad, NoSite, NoSpot, NoTree, NoWorth, NoYard, TreeError
+from treewells.desk import Desk
+from treewells.errors import (NoGift, NoKind, NoName, NoPlace, NoQuestion, NoRoad, NoRow, NoSite, NoSpot, NoText,
+                              NoTree, NoWorth, NoYard, TreeError)
+from treewells.gatherings import Colours, Round, Spots, Sweeps, Walks, Worths
 from treewells.goods import are_levels, are_sendings, cost_of, least_cost, levels, loads, pay, sendings
+from treewells.kinds import kind_of
 from treewells.middles import balance, branches, ends, middle, spot_far, sum_from
 from treewells.questions import Balance, Goods, Middle, Reach, Wells
 from treewells.reaches import best_wells, least_reach, why_reach
 from treewells.rounds import length_of, line_by, needed, round_by, sweeps, walks
+from treewells.texts import read_rows, read_tree, shown_rows, shown_tree
 from treewells.trees import beyond, far, hull, is_lump, is_tree, leaves, odd_places, way
 from treewells.wells import serves, shy, wells
 from treewells.worths import best_yards, prices
@@ -23,7 +28,7 @@ def askings(many, roads):
     wants = list(range(many))
     places = list(range(many))
     found = [
-        (is_tree, ()), (leaves, ()), (odd_places, ()), (ends, ()), (middle, ()),
+        (is_tree, ()), (shown_tree, ()), (leaves, ()), (odd_places, ()), (ends, ()), (middle, ()),
         (way, (0, many - 1)), (way, (0, 0)), (far, (many - 1, 0)),
         (is_lump, (places,)), (is_lump, ([many, 0, 0],)), (hull, (places,)), (hull, ([0],)),
         (hull, ([many - 1, 0, 0],)), (hull, ([],)), (spot_far, ([0, 0, 0], many - 1)),
@@ -76,8 +81,11 @@ def goings(many, roads):
 def questions(many, roads):
     """All that kinds are asked, with their own answers and papers and with rows that are none."""
     places = list(range(many))
+    yards = [road[1::-1] for road in roads] + [places[::-1]]
     found = []
-    for kind, asked in ((Middle(), []), (Balance(), [places]), (Wells(), [places[::-1], [0, 1], [many - 1, 2], [0, 1]]),
+    for kind, asked in ((Spots(), yards), (Colours(), yards), (Worths(), [list(range(many)[::-1])] + yards),
+                        (Spots(), []), (Walks(), []), (Sweeps(), []), (Round(), [places[::-1] * 2]), (Round(), [[]]),
+                        (Middle(), []), (Balance(), [places]), (Wells(), [places[::-1], [0, 1], [many - 1, 2], [0, 1]]),
                         (Wells(), [[], [0, 0], [0, 1]]), (Reach(), [[1], places[::-1], places * 2]),
                         (Reach(), [[1], [many - 1], [0]]), (Goods(), [[1 - many] + [1] * (many - 1)])):
         found += [(ask, (asked,)) for ask in (kind.fits, kind.answer, kind.paper, kind.worth)]
@@ -97,6 +105,13 @@ def spoil(told):
         told.reverse()
 
 
+def talk(row):
+    """What a desk with a tree answers."""
+    desk = Desk()
+    desk.say(f"tree a {shown_tree(*FORK)}")
+    return desk.say(row)
+
+
 REFUSED = [
     (NoTree, way, (*NO_TREES[-2], 0, 0)), (NoTree, hull, (*NO_TREES[-2], [0])), (NoPlace, way, (*FORK, 0, 4)),
     (NoPlace, hull, (*FORK, [3, 0, 9])), (NoRoad, beyond, (*FORK, 0, 3)), (NoSpot, spot_far, (*FORK, [3, 0, 1], 0)),
@@ -114,7 +129,10 @@ REFUSED = [
     (NoGift, are_sendings, (*FORK, [3, -2, -1, 1], [[3, 0, 1]])), (NoPlace, cost_of, (*FORK, [[3, 0, 1], [4, 0, 1]])),
     (NoGift, pay, ([3, -2], [1, 2])), (NoTree, round_by, (*NO_TREES[-2], [5])), (NoPlace, round_by, (*FORK, [3, 0, 9])),
     (NoPlace, needed, (*FORK, [3, 0, 9])), (NoPlace, line_by, (*FORK, 9, [3, 0])),
-    (NoPlace, length_of, (*FORK, [3, 9])),
+    (NoPlace, length_of, (*FORK, [3, 9])), (NoTree, shown_tree, NO_TREES[-2]), (NoTree, read_tree, ("2 / 0 1 0",)),
+    (NoText, read_tree, ("2 / 0 1 00",)), (NoText, read_rows, ("1 /",)), (NoKind, kind_of, ("yards",)),
+    (NoRow, Desk().say, ("show",)), (NoName, Desk().say, ("show a",)), (NoQuestion, talk, ("answer a walks .",)),
+    (NoRoad, talk, ("cut a 1",)), (NoPlace, talk, ("cut a 4",)), (NoTree, talk, ("grow a 3 0",)),
 ]
 
 
@@ -137,6 +155,19 @@ class Handed(unittest.TestCase):
         gives, some = [3, -1, -2], [5, 0, -7]
         self.assertEqual(pay(gives, some), -29)
         self.assertEqual((gives, some), ([3, -1, -2], [5, 0, -7]))
+
+    def test_texts_change_nothing(self):
+        rows = [[1, 2], [], [-3]]
+        self.assertEqual(shown_rows(rows), "1 2 / . / -3")
+        self.assertEqual(rows, [[1, 2], [], [-3]])
+
+    def test_what_is_read_is_the_readers_own(self):
+        for ask, text in ((read_rows, "1 2 / . / -3"), (read_tree, "3 / 0 1 4 / 1 2 5")):
+            told = ask(text)
+            kept = copy.deepcopy(told)
+            for thing in told:
+                spoil(thing)
+            self.assertEqual(ask(text), kept)
 
     def test_what_is_told_is_the_askers_own(self):
         for many, roads in TREES:
@@ -168,7 +199,10 @@ class Handed(unittest.TestCase):
                 sendings(4, roads, gives), levels(4, roads, gives), round_by(4, roads, some), needed(4, roads, some),
                 line_by(4, roads, 0, some), walks(4, roads), sweeps(4, roads), Goods().answer(4, roads, [gives]),
                 Balance().paper(4, roads, [wants]), Wells().answer(4, roads, [some] + houses),
-                Reach().paper(4, roads, [[1], some, some])]
+                Reach().paper(4, roads, [[1], some, some]), Spots().answer(4, roads, yards),
+                Colours().answer(4, roads, yards), Worths().paper(4, roads, [worths] + yards),
+                Round().answer(4, roads, [some]), Round().paper(4, roads, [some]), Walks().answer(4, roads, []),
+                Sweeps().paper(4, roads, []), shown_tree(4, roads), shown_rows(yards)]
         kept = copy.deepcopy(told)
         for handed in (roads, some, wants, houses, yards, worths, gives):
             spoil(handed)
@@ -177,7 +211,9 @@ class Handed(unittest.TestCase):
 
 class Refusals(unittest.TestCase):
     def test_each_is_caught_by_three_names_and_no_other(self):
-        names = (NoTree, NoPlace, NoRoad, NoSpot, NoSite, NoYard, NoWorth, NoGift)
+        names = (NoTree, NoPlace, NoRoad, NoSpot, NoSite, NoYard, NoWorth, NoGift, NoText, NoKind, NoQuestion, NoRow,
+                 NoName)
+        self.assertEqual({error for error, _, _ in REFUSED}, set(names))
         for error, ask, handed in REFUSED:
             for name in (error, TreeError, ValueError):
                 self.assertRaises(name, ask, *handed)

@@ -3,84 +3,13 @@ import random
 import unittest
 
 import judges
-from samples import (FORK, GREAT, HUGE, all_trees, chance_gives, chance_houses, chance_sites, fars, small_trees,
-                     subsets)
+from askings import Looks, chance_asked
+from samples import FORK, GREAT, HUGE, all_trees, fars, small_trees, subsets
 from treewells.questions import Balance, Digging, Goods, Middle, Question, Reach, Wells
 
 KINDS = (Middle(), Balance(), Wells(), Reach(), Goods())
 ROW = (12, [[place, place + 1, place + 1] for place in range(11)])
 ONE = (1, [])
-
-
-def chance_asked(chance, word, many, table):
-    """Rows that ask a question of this kind."""
-    if word == "middle":
-        return []
-    if word == "balance":
-        return [[chance.randint(0, chance.choice((0, 1, 5, GREAT))) for _ in range(many)]]
-    if word == "wells":
-        return [chance_sites(chance, many)] + chance_houses(chance, table, 7)
-    if word == "reach":
-        homes = [chance.randrange(many) for _ in range(chance.randint(0, 8))]
-        return [[chance.choice((1, 1, 2, 3, HUGE))], chance_sites(chance, many, 1), homes]
-    return [chance_gives(chance, many, chance.choice((0, 1, 9, GREAT)))]
-
-
-def spoilt_rows(many, rows):
-    """Rows that are like these but in one thing."""
-    found = [[], [[]], rows + [[]], [[]] + rows, rows * 2, rows[1:], rows[:-1], rows[::-1], rows + [[0]], rows[:1]]
-    for number, row in enumerate(rows):
-        spoilt = [row[::-1], row + [0], row[:-1], row[1:], [], row + row[-1:], row[:1] + row, row * 2, sorted(row)]
-        for place, value in enumerate(row):
-            others = (value - 1, value + 1, -1, -value, many, value - many, HUGE)
-            spoilt += [row[:place] + [other] + row[place + 1:] for other in others]
-        found += [rows[:number] + [other] + rows[number + 1:] for other in spoilt]
-    return found
-
-
-def chance_answers(chance, word, many, roads, asked):
-    """Rows that may be answers, right or wrong ones."""
-    if word == "middle":
-        spots = [[a, b, chance.choice((0, length, 2 * length, chance.randint(0, 2 * length)))]
-                 for road in roads for a, b, length in (road, [road[1], road[0], road[2]])]
-        return [[spot] for spot in spots + [[a, a, p] for a in range(many) for p in (0, 1)]]
-    if word == "balance":
-        return [[[place]] for place in range(-1, many + 1)]
-    if word in ("wells", "reach"):
-        sites = asked[word == "reach"]
-        some = [sorted(chance.sample(sites, chance.randint(0, len(sites)))) for _ in range(6)]
-        return [[row] for row in some + [sites, sorted(sites)]]
-    return [chance_sent(chance, many, asked[0]) for _ in range(4)]
-
-
-def chance_sent(chance, many, gives):
-    """Sendings by way of one place, and some goods that go to and fro."""
-    stop = chance.randrange(many)
-    rows = [[place, stop, gift] if gift > 0 else [stop, place, -gift]
-            for place, gift in enumerate(gives) if gift != 0 and place != stop]
-    if many > 1 and chance.random() < 0.5:
-        a, b = chance.sample(range(many), 2)
-        rows += [[a, b, 2], [b, a, 1], [b, a, 1]]
-    return rows
-
-
-def chance_papers(chance, word, many, roads, asked, table):
-    """Rows that may be papers, right or wrong ones."""
-    if word == "middle":
-        return [[[a, b]] for a in range(-1, many + 1) for b in chance.sample(range(many), (many + 2) // 3)]
-    if word == "balance":
-        return [[[place]] + judges.branches_of(table, roads, asked[0], place) for place in range(many)]
-    if word in ("wells", "reach"):
-        count = len(asked) - 1 if word == "wells" else len(asked[2])
-        some = [sorted(chance.sample(range(count), chance.randint(0, count))) for _ in range(5)]
-        return [[row] for row in some + [[number] for number in range(count + 1)] + subsets(range(count))[-25:]]
-    start, sign, base = chance.randrange(many), chance.choice((1, -1)), chance.choice((0, HUGE, -HUGE))
-    return [[[base + sign * length for length in table[start]]], [[0] * many], [[base] * many]]
-
-
-def near_by(told):
-    """Worths at and about the one that is told."""
-    return [None, 0, 1, -1, HUGE, -HUGE] + ([] if told is None else [told - 1, told, told + 1, told // 2, 2 * told])
 
 
 class Classes(unittest.TestCase):
@@ -101,12 +30,8 @@ class Classes(unittest.TestCase):
                     self.assertIs(kind.fits(many, roads, asked), False)
 
 
-class Fits(unittest.TestCase):
-    def check(self, kind, tree, right, wrong):
-        for asked in right:
-            self.assertIs(kind.fits(*tree, asked), True, (tree, asked))
-        for asked in wrong:
-            self.assertIs(kind.fits(*tree, asked), False, (tree, asked))
+class Fits(Looks, unittest.TestCase):
+    check = Looks.check_fits
 
     def test_middle(self):
         for tree in (ONE, FORK, ROW):
@@ -147,49 +72,11 @@ class Fits(unittest.TestCase):
         self.check(Goods(), ROW, [[[1] * 6 + [-1] * 6]], [[[1] * 6 + [-1] * 5], [[1] * 7 + [-1] * 5]])
 
 
-class Told(unittest.TestCase):
-    def check(self, kind, many, roads, table, asked):
-        """Answer and paper have the worth that is told, and by the same worth are right by definition."""
-        case = (kind.word(), many, roads, asked)
-        self.assertIs(kind.fits(many, roads, asked), True, case)
-        rows, paper = kind.answer(many, roads, asked), kind.paper(many, roads, asked)
-        worth = kind.worth(many, roads, asked)
-        self.check_rows(paper)
-        self.assertTrue(judges.shows(kind.word(), table, roads, asked, paper, worth), case)
-        self.assertIs(kind.shows(many, roads, asked, paper, worth), True, case)
-        self.assertEqual(worth is None, rows is None, case)
-        if worth is not None:
-            self.check_rows(rows)
-            self.assertIsInstance(worth, int, case)
-            self.assertTrue(judges.takes(kind.word(), table, roads, asked, rows, worth), case)
-            self.assertIs(kind.takes(many, roads, asked, rows, worth), True, case)
-            self.assertIs(kind.takes(many, roads, asked, rows, worth + 1), True, case)
-            self.assertIs(kind.takes(many, roads, asked, rows, worth - 1), False, case)
-            self.assertIs(kind.shows(many, roads, asked, paper, worth + 1), False, case)
-            self.assertIs(kind.shows(many, roads, asked, paper, None), False, case)
-        self.assertIs(kind.takes(many, roads, asked, rows, None), False, case)
-        return worth
-
-    def check_rows(self, rows):
-        self.assertIsInstance(rows, list)
-        for row in rows:
-            self.assertIsInstance(row, list)
-            self.assertTrue(all(isinstance(value, int) and not isinstance(value, bool) for value in row), rows)
+class Told(Looks, unittest.TestCase):
+    check = Looks.check_told
 
     def test_all_kinds_at_all_trees(self):
-        chance = random.Random(50)
-        for many, roads in all_trees():
-            table = fars(many, roads)
-            for kind in KINDS:
-                for _ in range(3):
-                    self.check(kind, many, roads, table, chance_asked(chance, kind.word(), many, table))
-
-    def least_taken(self, word, table, roads, asked, answers):
-        """The least worth with which an answer is taken, by trying worths from 0 on, or None."""
-        for worth in range(200):
-            if any(judges.takes(word, table, roads, asked, rows, worth) for rows in answers):
-                return worth
-        return None
+        self.check_many_told(KINDS, all_trees(), 3, 50)
 
     def test_no_spot_is_a_better_middle(self):
         for many, roads in small_trees()[::3]:
@@ -210,7 +97,7 @@ class Told(unittest.TestCase):
         for many, roads in small_trees()[::2]:
             table = fars(many, roads)
             for _ in range(3):
-                asked = chance_asked(chance, "wells", many, table)
+                asked = chance_asked(chance, "wells", many, roads, table)
                 answers = [[some] for some in subsets(sorted(asked[0]))]
                 least = self.least_taken("wells", table, roads, asked, answers)
                 self.assertEqual(self.check(Wells(), many, roads, table, asked), least, (many, roads, asked))
@@ -220,7 +107,7 @@ class Told(unittest.TestCase):
         for many, roads in small_trees()[::2]:
             table = fars(many, roads)
             for _ in range(3):
-                asked = chance_asked(chance, "reach", many, table)
+                asked = chance_asked(chance, "reach", many, roads, table)
                 answers = [[some] for some in subsets(sorted(asked[1]))]
                 least = self.least_taken("reach", table, roads, asked, answers)
                 self.assertEqual(self.check(Reach(), many, roads, table, asked), least, (many, roads, asked))
@@ -289,38 +176,14 @@ class Told(unittest.TestCase):
         self.assertEqual(Goods().worth(*FORK, [[3, 1, -2, -2]]), 33)
 
 
-class LookedAt(unittest.TestCase):
-    def check(self, kind, many, roads, table, asked, answers, papers):
-        """Each answer and paper is taken just where it is right by definition."""
-        worths = near_by(kind.worth(many, roads, asked))
-        for rows in answers:
-            for worth in worths:
-                right = judges.takes(kind.word(), table, roads, asked, rows, worth)
-                told = kind.takes(many, roads, asked, rows, worth)
-                self.assertIs(told, right, (kind.word(), many, roads, asked, rows, worth))
-        for rows in papers:
-            for worth in worths:
-                right = judges.shows(kind.word(), table, roads, asked, rows, worth)
-                told = kind.shows(many, roads, asked, rows, worth)
-                self.assertIs(told, right, (kind.word(), many, roads, asked, rows, worth))
+class LookedAt(Looks, unittest.TestCase):
+    check = Looks.check_looked_at
 
     def test_rows_wrong_in_one_thing(self):
-        chance = random.Random(54)
-        for many, roads in all_trees()[:41] + all_trees()[41::4]:
-            table = fars(many, roads)
-            for kind in KINDS:
-                asked = chance_asked(chance, kind.word(), many, table)
-                rows, paper = kind.answer(many, roads, asked) or [], kind.paper(many, roads, asked)
-                self.check(kind, many, roads, table, asked, spoilt_rows(many, rows), spoilt_rows(many, paper))
+        self.check_many_spoilt(KINDS, all_trees()[:41] + all_trees()[41::4], 54)
 
     def test_other_rows_right_and_wrong(self):
-        chance = random.Random(55)
-        for many, roads in all_trees()[:41] + all_trees()[41::2]:
-            table = fars(many, roads)
-            for kind in KINDS:
-                asked = chance_asked(chance, kind.word(), many, table)
-                self.check(kind, many, roads, table, asked, chance_answers(chance, kind.word(), many, roads, asked),
-                           chance_papers(chance, kind.word(), many, roads, asked, table))
+        self.check_many_others(KINDS, all_trees()[:41] + all_trees()[41::2], 55)
 
     def test_all_short_lists_of_places_and_numbers(self):
         chance = random.Random(56)
@@ -329,7 +192,7 @@ class LookedAt(unittest.TestCase):
             table = fars(many, roads)
             for kind in KINDS[2:4]:
                 for _ in range(2):
-                    asked = chance_asked(chance, kind.word(), many, table)
+                    asked = chance_asked(chance, kind.word(), many, roads, table)
                     rows = [[some] for some in lists]
                     self.check(kind, many, roads, table, asked, rows, rows)
 

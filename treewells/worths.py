@@ -5,8 +5,12 @@ from treewells.trees import is_whole, neighbours
 from treewells.yards import check_yards, gates_of, outer_first
 
 
+def are_worths(yards, worths):
+    return len(worths) == len(yards) and all([is_whole(worth) and worth >= 0 for worth in worths])
+
+
 def check_worths(yards, worths):
-    if len(worths) != len(yards) or not all([is_whole(worth) and worth >= 0 for worth in worths]):
+    if not are_worths(yards, worths):
         raise NoWorth("worths are a number from 0 on for each yard")
 
 
