@@ -268,7 +268,8 @@ class LookedAt(Looks, unittest.TestCase):
                        [([[0, 1, 2, 1]], 3), ([[2, 0, 1, 0]], 3), ([[5, 0, 1, 2]], 6), ([[GREAT, 0, 1, 2]], GREAT + 1),
                         ([[1, 2, 3, 4]], 5)],
                        [[], [[]], [[0, 1, 1, 2]], [[0, 1, 2, 0]], [[0, 1, 2]], [[0, 1, 2, 1, 0]], [[-1, 1, 2, 1]],
-                        [[0, 1, 2, 1], []], [[0, 1, 2, 1]] * 2, [[0], [1], [2], [1]], [[0, 0, 0, 0]]])
+                        [[0, 1, 2, 1], []], [[0, 1, 2, 1]] * 2, [[0], [1], [2], [1]], [[0, 0, 0, 0]],
+                        [[2, False, True, 0]]])
         self.all_shown(Colours(), FORK, asked, [([[1]], 3), ([[0]], 2), ([[2]], 1), ([[3]], 1)],
                        [[], [[]], [[4]], [[-1]], [[1, 1]], [[1], []], [[1], [1]], [[HUGE]]])
         self.all_taken(Colours(), FORK, [], [([[]], 0)], [[], [[0]], [[], []]])
@@ -290,7 +291,7 @@ class LookedAt(Looks, unittest.TestCase):
             self.assertIs(Worths().shows(*FORK, asked, rows, worth - 1), False)
             self.assertIs(Worths().shows(*FORK, asked, rows, None), False)
         for rows in ([], [[]], [[9, 0, 1, 1]], [[8, 2, 0, 0]], [[9, 2, 0]], [[9, 2, 0, 0, 0]], [[9, 3, -1, 0]],
-                     [[9, 2, 0, 0], []], [[9, 2, 0, 0]] * 2, [[9], [2], [0], [0]]):
+                     [[9, 2, 0, 0], []], [[9, 2, 0, 0]] * 2, [[9], [2], [0], [0]], [[9, 2, False, 0]]):
             self.assertIs(Worths().shows(*FORK, asked, rows, HUGE), False)
 
     def test_worths_without_yards(self):
